@@ -1,0 +1,158 @@
+"""Tests of the interface and of the conventions [2] that hold for everything."""
+
+import inspect
+import unittest
+
+import samples
+import wishedtongues.catalogs as catalogs
+import wishedtongues.trees as trees
+from samples import BUNDLED, CATALOGS, KEYED, TREE
+
+INTERFACE = {
+    trees: {
+        "is_tree": "(value)",
+        "is_locale": "(tree, value)",
+        "is_wishes": "(tree, value)",
+        "path": "(tree, locale)",
+        "tongue": "(tree, locale)",
+        "slim": "(tree, wishes)",
+        "looked": "(tree, wishes)",
+        "same_wishes": "(tree, wishes, other_wishes)",
+        "count_slim": "(tree)",
+        "slim_lists": "(tree, *, longest=2, most=1000)",
+    },
+    catalogs: {
+        "is_catalog": "(value)",
+        "entries": "(catalog)",
+        "own_text": "(catalog, locale, key)",
+        "is_skipped": "(catalog, locale)",
+        "shown": "(catalog, wishes, key)",
+        "place": "(catalog, wishes, key)",
+        "chosen": "(catalog, wishes)",
+        "shown_row": "(catalog, wishes)",
+        "with_text": "(catalog, locale, key, text=None)",
+        "laid_over": "(catalog, other_catalog)",
+        "same_here": "(catalog, wishes, other_wishes)",
+        "shortened": "(catalog, wishes)",
+        "parting_catalog": "(tree, way, wishes, other_wishes)",
+    },
+}
+
+
+def rebuilt(value):
+    """An equal value that shares no tuple and no list with this one."""
+    if type(value) in (tuple, list):
+        return type(value)([rebuilt(part) for part in value])
+    return value
+
+
+def calls():
+    """A call of each function for each sample: the function and its arguments."""
+    found = []
+    for catalog in CATALOGS:
+        tree = catalog[0]
+        low = len(tree) - 1
+        wishes, other_wishes = (low, 0, 0, low), (0, low)
+        found += [
+            (trees.is_tree, (tree,)), (trees.is_locale, (tree, low)), (trees.is_wishes, (tree, wishes)),
+            (trees.path, (tree, low)), (trees.tongue, (tree, low)), (trees.slim, (tree, wishes)),
+            (trees.looked, (tree, wishes)), (trees.same_wishes, (tree, wishes, other_wishes)),
+            (trees.count_slim, (tree,)), (catalogs.is_catalog, (catalog,)),
+            (catalogs.entries, (catalog,)), (catalogs.own_text, (catalog, low, 0)),
+            (catalogs.is_skipped, (catalog, low)), (catalogs.shown, (catalog, wishes, 0)),
+            (catalogs.place, (catalog, wishes, 0)), (catalogs.chosen, (catalog, wishes)),
+            (catalogs.shown_row, (catalog, wishes)), (catalogs.with_text, (catalog, low, 0, 3)),
+            (catalogs.with_text, (catalog, low, 0)), (catalogs.laid_over, (catalog, catalog)),
+            (catalogs.same_here, (catalog, wishes, other_wishes)),
+            (catalogs.shortened, (catalog, wishes)),
+            (catalogs.parting_catalog, (tree, catalog[1], wishes, other_wishes)),
+        ]
+    return found
+
+
+class Interface(unittest.TestCase):
+    def test_names_arguments_and_files(self):
+        for module, names in INTERFACE.items():
+            for name, signature in names.items():
+                function = getattr(module, name)
+                self.assertTrue(inspect.isfunction(function), name)
+                self.assertEqual(str(inspect.signature(function)), signature, name)
+                self.assertEqual(function.__module__, module.__name__, name)
+                self.assertEqual(function.__name__, name)
+
+    def test_one_argument_more_or_less_is_refused(self):
+        for module, names in INTERFACE.items():
+            for name in names:
+                for given in ((), (1,) * 6):
+                    with self.assertRaises(TypeError):
+                        getattr(module, name)(*given)
+
+
+class Conventions(unittest.TestCase):
+    def test_kinds_of_results(self):
+        kinds = {
+            "is_tree": bool, "is_locale": bool, "is_wishes": bool, "path": tuple, "tongue": int,
+            "slim": tuple, "looked": tuple, "same_wishes": bool, "count_slim": int,
+            "is_catalog": bool, "entries": list, "own_text": int, "is_skipped": bool,
+            "shown": int, "place": int, "chosen": int, "shown_row": tuple, "with_text": tuple,
+            "laid_over": tuple, "same_here": bool, "shortened": tuple, "parting_catalog": tuple,
+        }
+        may_be_none = ("own_text", "shown", "place", "chosen", "parting_catalog")
+        seen = {}
+        for function, given in calls():
+            got, name = function(*given), function.__name__
+            if got is not None or name not in may_be_none:
+                self.assertIs(type(got), kinds[name], (name, given))
+            seen.setdefault(name, []).append(got)
+        for name in may_be_none:
+            self.assertIn(None, seen[name], name)
+            self.assertNotEqual([got for got in seen[name] if got is not None], [], name)
+
+    def test_new_catalogs_are_catalogs(self):
+        for catalog in CATALOGS:
+            for got in (
+                catalogs.with_text(catalog, 0, 0, 9), catalogs.with_text(catalog, 0, 0),
+                catalogs.laid_over(catalog, catalog),
+            ):
+                self.assertTrue(catalogs.is_catalog(got))
+
+    def test_equal_calls_return_equal_results(self):
+        told = [repr(function(*given)) for function, given in calls()]
+        again = [repr(function(*rebuilt(given))) for function, given in calls()]
+        self.assertEqual(told, again)
+        backwards = [repr(function(*given)) for function, given in reversed(calls())]
+        self.assertEqual(told, backwards[::-1])
+
+    def test_arguments_are_not_modified(self):
+        for function, given in calls():
+            before = repr(given)
+            function(*given)
+            self.assertEqual(repr(given), before, function)
+
+    def test_lists_that_are_asked_about_are_not_modified(self):
+        for value in samples.any_values():
+            before = repr(value)
+            trees.is_tree(value)
+            trees.is_locale(TREE, value)
+            trees.is_wishes(TREE, value)
+            catalogs.is_catalog(value)
+            self.assertEqual(repr(value), before)
+
+    def test_a_changed_result_changes_nothing(self):
+        for catalog in (KEYED, BUNDLED):
+            got = catalogs.entries(catalog)
+            got.append((9, 9))
+            got[0] = None
+            self.assertEqual(
+                catalogs.entries(catalog), [(0, 0), (0, 1), (1, 0), (2, 1), (3, 1)])
+
+    def test_a_list_that_is_changed_later(self):
+        rows = [(5, 6), (1, None), (None, 2), (None, 3)]
+        catalog = (TREE, "key", tuple(rows))
+        first = catalogs.with_text(catalog, 0, 0, 1)
+        rows.clear()
+        self.assertEqual(first[2][1:], ((1, None), (None, 2), (None, 3)))
+
+
+if __name__ == "__main__":
+    unittest.main()

@@ -1,0 +1,1 @@
+"""Wishedtongues: texts in many languages, for all wish lists."""
