@@ -176,3 +176,31 @@ def catalogs_of(tree, way, keys, texts):
         rows = tuple(cells[at:at + keys] for at in range(0, many, keys))
         found.append((tree, way, rows))
     return found
+
+
+def same_shown(catalog, other_catalog, lists):
+    return all(shown_row(catalog, wishes) == shown_row(other_catalog, wishes) for wishes in lists)
+
+
+def without(catalog, entry):
+    rows = [list(row) for row in catalog[2]]
+    rows[entry[0]][entry[1]] = None
+    return (catalog[0], catalog[1], tuple(tuple(row) for row in rows))
+
+
+def is_page(catalog, value):
+    if type(value) is not tuple or len(value) == 0:
+        return False
+    return all(is_key(catalog, key) for key in value) and list(value) == sorted(set(value))
+
+
+def mixes(catalog, wishes, page):
+    places = [place(catalog, wishes, key) for key in page]
+    return len({tongue(catalog[0], locale) for locale in places if locale is not None}) > 1
+
+
+def first_mixing(catalog, page, lists):
+    for wishes in lists:
+        if mixes(catalog, wishes, page):
+            return wishes
+    return None

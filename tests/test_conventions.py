@@ -5,6 +5,9 @@ import unittest
 
 import samples
 import wishedtongues.catalogs as catalogs
+import wishedtongues.compare as compare
+import wishedtongues.least as least
+import wishedtongues.pages as pages
 import wishedtongues.trees as trees
 from samples import BUNDLED, CATALOGS, KEYED, TREE
 
@@ -35,6 +38,25 @@ INTERFACE = {
         "same_here": "(catalog, wishes, other_wishes)",
         "shortened": "(catalog, wishes)",
         "parting_catalog": "(tree, way, wishes, other_wishes)",
+    },
+    compare: {
+        "alike": "(catalog, other_catalog)",
+        "parting": "(catalog, other_catalog)",
+        "within": "(catalog, other_catalog)",
+        "lacking": "(catalog, other_catalog)",
+    },
+    least: {
+        "needless": "(catalog)",
+        "is_least": "(catalog)",
+        "least": "(catalog)",
+        "count_least": "(catalog)",
+        "least_catalogs": "(catalog, *, most=1000)",
+    },
+    pages: {
+        "mixes": "(catalog, wishes, page)",
+        "mixing": "(catalog, page)",
+        "fewest_added": "(catalog, page)",
+        "completed": "(catalog, page, text)",
     },
 }
 
@@ -67,7 +89,22 @@ def calls():
             (catalogs.shortened, (catalog, wishes)),
             (catalogs.parting_catalog, (tree, catalog[1], wishes, other_wishes)),
         ]
+        page = tuple(range(len(catalog[2][0])))
+        other_catalog = catalogs.with_text(catalog, low, 0, 9)
+        found += [
+            (compare.alike, (catalog, other_catalog)), (compare.parting, (catalog, other_catalog)),
+            (compare.within, (catalog, other_catalog)), (compare.lacking, (catalog, other_catalog)),
+            (compare.parting, (catalog, catalog)), (compare.lacking, (catalog, catalog)),
+            (least.needless, (catalog,)), (least.is_least, (catalog,)), (least.least, (catalog,)),
+            (least.count_least, (catalog,)), (listed_least, (catalog,)),
+            (pages.mixes, (catalog, wishes, page)), (pages.mixing, (catalog, page)),
+            (pages.fewest_added, (catalog, page)), (pages.completed, (catalog, page, 8)),
+        ]
     return found
+
+
+def listed_least(catalog):
+    return list(least.least_catalogs(catalog))
 
 
 class Interface(unittest.TestCase):
@@ -96,8 +133,12 @@ class Conventions(unittest.TestCase):
             "is_catalog": bool, "entries": list, "own_text": int, "is_skipped": bool,
             "shown": int, "place": int, "chosen": int, "shown_row": tuple, "with_text": tuple,
             "laid_over": tuple, "same_here": bool, "shortened": tuple, "parting_catalog": tuple,
+            "alike": bool, "parting": tuple, "within": bool, "lacking": tuple, "needless": list,
+            "is_least": bool, "least": tuple, "count_least": int, "listed_least": list,
+            "mixes": bool, "mixing": tuple, "fewest_added": int, "completed": tuple,
         }
-        may_be_none = ("own_text", "shown", "place", "chosen", "parting_catalog")
+        may_be_none = ("own_text", "shown", "place", "chosen", "parting_catalog", "parting",
+                       "lacking", "mixing")
         seen = {}
         for function, given in calls():
             got, name = function(*given), function.__name__
@@ -112,7 +153,8 @@ class Conventions(unittest.TestCase):
         for catalog in CATALOGS:
             for got in (
                 catalogs.with_text(catalog, 0, 0, 9), catalogs.with_text(catalog, 0, 0),
-                catalogs.laid_over(catalog, catalog),
+                catalogs.laid_over(catalog, catalog), least.least(catalog),
+                pages.completed(catalog, (0,), 9),
             ):
                 self.assertTrue(catalogs.is_catalog(got))
 
@@ -145,6 +187,9 @@ class Conventions(unittest.TestCase):
             got[0] = None
             self.assertEqual(
                 catalogs.entries(catalog), [(0, 0), (0, 1), (1, 0), (2, 1), (3, 1)])
+            got = least.needless(catalog)
+            got.append((9, 9))
+            self.assertEqual(least.needless(catalog), [])
 
     def test_a_list_that_is_changed_later(self):
         rows = [(5, 6), (1, None), (None, 2), (None, 3)]

@@ -1,4 +1,4 @@
-"""Tests of the errors about parameters [2], for all functions of trees and catalogs."""
+"""Tests of the errors about parameters [2], for all functions that have some."""
 
 import unittest
 from itertools import combinations
@@ -6,7 +6,10 @@ from itertools import combinations
 import reference
 import samples
 import wishedtongues.catalogs as catalogs
+import wishedtongues.compare as compare
 import wishedtongues.errors as errors
+import wishedtongues.least as least
+import wishedtongues.pages as pages
 import wishedtongues.trees as trees
 from samples import BUNDLED, KEYED, TREE
 
@@ -22,12 +25,13 @@ ERRORS = {
     "text": errors.InvalidText,
     "longest": errors.InvalidChoice,
     "most": errors.InvalidChoice,
+    "page": errors.InvalidPage,
 }
 
 VALID = {
     "tree": TREE, "locale": 2, "wishes": (2, 0, 3), "other_wishes": (1, 3), "way": "key",
     "catalog": KEYED, "other_catalog": KEYED, "key": 1, "text": 4, "longest": 3, "most": 7,
-    "value": 1,
+    "value": 1, "page": (0, 1),
 }
 
 # What is right where TREE is the tree and KEYED the catalog.
@@ -40,9 +44,10 @@ RIGHT = {
     "catalog": reference.is_catalog,
     "other_catalog": reference.is_catalog,
     "key": lambda value: reference.is_key(KEYED, value),
-    "text": lambda value: value is None or reference.is_text(value),
+    "text": reference.is_text,
     "longest": lambda value: reference.is_whole(value) and 0 <= value <= 10,
     "most": lambda value: reference.is_whole(value) and 1 <= value <= 1000,
+    "page": lambda value: reference.is_page(KEYED, value),
 }
 
 SIGNATURES = [
@@ -66,6 +71,18 @@ SIGNATURES = [
     (catalogs.same_here, ("catalog", "wishes", "other_wishes")),
     (catalogs.shortened, ("catalog", "wishes")),
     (catalogs.parting_catalog, ("tree", "way", "wishes", "other_wishes")),
+    (compare.alike, ("catalog", "other_catalog")),
+    (compare.parting, ("catalog", "other_catalog")),
+    (compare.within, ("catalog", "other_catalog")),
+    (compare.lacking, ("catalog", "other_catalog")),
+    (least.needless, ("catalog",)),
+    (least.is_least, ("catalog",)),
+    (least.least, ("catalog",)),
+    (least.count_least, ("catalog",)),
+    (pages.mixes, ("catalog", "wishes", "page")),
+    (pages.mixing, ("catalog", "page")),
+    (pages.fewest_added, ("catalog", "page")),
+    (pages.completed, ("catalog", "page", "text")),
 ]
 
 
@@ -74,16 +91,34 @@ def listed(tree, **choices):
     return list(trees.slim_lists(tree, **choices))
 
 
-def wrong_values(name):
+def listed_least(catalog, **choices):
+    """The least catalogs, so that its errors come by the call."""
+    return list(least.least_catalogs(catalog, **choices))
+
+
+BY_NAME = SIGNATURES + [
+    (listed, ("tree", "longest", "most")),
+    (listed_least, ("catalog", "most")),
+]
+
+
+def is_right(function, name, value):
+    """Whether the value may be passed to this parameter of the function."""
+    if function is catalogs.with_text and name == "text" and value is None:
+        return True
+    return RIGHT[name](value)
+
+
+def wrong_values(function, name):
     """Values of all kinds that are wrong for this parameter."""
     values = samples.any_values() + samples.changed(VALID[name])
-    return [value for value in values if not RIGHT[name](value)]
+    return [value for value in values if not is_right(function, name, value)]
 
 
-def few_wrong_values(name):
+def few_wrong_values(function, name):
     """Values that are wrong in ways of which other parameters allow some."""
     values = (True, -1, 10, "key ", [], [0], (-1,), (True,), None, KEYED)
-    return [value for value in values if not RIGHT[name](value)]
+    return [value for value in values if not is_right(function, name, value)]
 
 
 class Wrong(unittest.TestCase):
@@ -100,12 +135,13 @@ class Wrong(unittest.TestCase):
             function(*[VALID[name] for name in names])
             function(**{name: VALID[name] for name in reversed(names)})
         self.assertEqual(len(listed(TREE, longest=3, most=7)), 7)
+        self.assertEqual(listed_least(KEYED, most=7), [KEYED])
 
     def test_each_parameter_in_turn(self):
-        for function, names in SIGNATURES + [(listed, ("tree", "longest", "most"))]:
+        for function, names in BY_NAME:
             for name in names:
                 if name != "value":
-                    for value in wrong_values(name):
+                    for value in wrong_values(function, name):
                         given = {other: VALID[other] for other in names}
                         given[name] = value
                         self.assert_raises(ERRORS[name], function, given)
@@ -114,25 +150,25 @@ class Wrong(unittest.TestCase):
         for function, names in SIGNATURES:
             for at, name in enumerate(names):
                 if name != "value":
-                    for value in few_wrong_values(name):
+                    for value in few_wrong_values(function, name):
                         given = [VALID[other] for other in names]
                         given[at] = value
                         with self.assertRaises(ERRORS[name]):
                             function(*given)
 
     def test_of_several_wrong_ones_the_first_counts(self):
-        for function, names in SIGNATURES + [(listed, ("tree", "longest", "most"))]:
+        for function, names in BY_NAME:
             names_with_errors = [name for name in names if name != "value"]
             for first, second in combinations(names_with_errors, 2):
-                for value in few_wrong_values(first):
-                    for other_value in few_wrong_values(second):
+                for value in few_wrong_values(function, first):
+                    for other_value in few_wrong_values(function, second):
                         given = {second: other_value, first: value}
                         for name in names:
                             given.setdefault(name, VALID[name])
                         self.assert_raises(ERRORS[first], function, given)
 
     def test_all_wrong(self):
-        for function, names in SIGNATURES + [(listed, ("tree", "longest", "most"))]:
+        for function, names in BY_NAME:
             given = {name: "wrong" for name in reversed(names)}
             self.assert_raises(ERRORS[names[0]], function, given)
 

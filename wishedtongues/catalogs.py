@@ -3,6 +3,7 @@
 from wishedtongues.errors import InvalidCatalog, InvalidKey, InvalidText, InvalidWay, Unlike
 from wishedtongues.kinds import is_integer_within, is_tuple
 from wishedtongues.paths import path_of
+from wishedtongues.rows import entries_of, row_over, rows_with
 from wishedtongues.showing import (
     chosen_of,
     first_place,
@@ -24,9 +25,14 @@ def is_way(value):
     return isinstance(value, str) and value in ("key", "bundle")
 
 
+def is_text(value):
+    """Whether any value is a text."""
+    return is_integer_within(value, 0, LAST_TEXT)
+
+
 def is_text_or_none(value):
     """Whether any value is a text, or None."""
-    return value is None or is_integer_within(value, 0, LAST_TEXT)
+    return value is None or is_text(value)
 
 
 def is_row(value):
@@ -71,6 +77,12 @@ def check_key(catalog, key):
         raise InvalidKey("this is no key of the catalog")
 
 
+def check_text(text):
+    """Raise InvalidText unless this is a text."""
+    if not is_text(text):
+        raise InvalidText("this is no text")
+
+
 def check_text_or_none(text):
     """Raise InvalidText unless this is a text, or None."""
     if not is_text_or_none(text):
@@ -97,12 +109,7 @@ def kind_of(catalog):
 def entries(catalog):
     """The ascending list of the entries."""
     check_catalog(catalog)
-    found = []
-    for locale, row in enumerate(catalog[2]):
-        for key, text in enumerate(row):
-            if text is not None:
-                found.append((locale, key))
-    return found
+    return entries_of(catalog[2])
 
 
 def own_text(catalog, locale, key):
@@ -159,8 +166,7 @@ def with_text(catalog, locale, key, text=None):
     check_key(catalog, key)
     check_text_or_none(text)
     tree, way, rows = catalog
-    row = rows[locale][:key] + (text,) + rows[locale][key + 1:]
-    return (tree, way, rows[:locale] + (row,) + rows[locale + 1:])
+    return (tree, way, rows_with(rows, locale, key, text))
 
 
 def laid_over(catalog, other_catalog):
@@ -171,11 +177,6 @@ def laid_over(catalog, other_catalog):
     tree, way, rows = catalog
     laid = [row_over(row, other_row) for row, other_row in zip(rows, other_catalog[2])]
     return (tree, way, tuple(laid))
-
-
-def row_over(row, other_row):
-    """The row with the texts of the other one wherever this has some."""
-    return tuple([under if over is None else over for under, over in zip(row, other_row)])
 
 
 def same_here(catalog, wishes, other_wishes):

@@ -74,6 +74,20 @@ def longer(tree, lists):
     return found
 
 
+def short_lists(tree, longest):
+    """Lists of at most so many wishes, fewer first, then ascending.
+
+    All slim ones are among them, so the first of all lists that shows something
+    is the first of these.
+    """
+    found = [()]
+    lists = [()]
+    for _ in range(longest):
+        lists = longer(tree, lists)
+        found = found + lists
+    return found
+
+
 def slim_sizes(tree):
     """For each number, how many slim lists without the root have so many wishes."""
     below = [[1] for _ in tree]
