@@ -1,6 +1,6 @@
 """The definitions of the document, word for word and slow, to compare with."""
 
-from itertools import product
+from itertools import combinations, product
 
 
 def is_whole(value):
@@ -202,5 +202,59 @@ def mixes(catalog, wishes, page):
 def first_mixing(catalog, page, lists):
     for wishes in lists:
         if mixes(catalog, wishes, page):
+            return wishes
+    return None
+
+
+def is_door(tree, value):
+    if type(value) is not tuple or len(value) != 2 or type(value[0]) is not str:
+        return False
+    word, told = value
+    if word == "only" or word == "lift":
+        return is_wishes(tree, told) and list(told) == sorted(set(told))
+    if word == "swap":
+        if type(told) is not tuple or not all(is_wishes(tree, pair) for pair in told):
+            return False
+        if not all(len(pair) == 2 for pair in told):
+            return False
+        return list(told) == sorted(told) and len({pair[0] for pair in told}) == len(told)
+    if word == "head" or word == "pad":
+        return is_wishes(tree, told)
+    return False
+
+
+def behind(tree, doors, wishes):
+    """The wish list behind all doors."""
+    for word, told in doors:
+        if word == "only":
+            wishes = [wish for wish in wishes if wish in told]
+        elif word == "lift":
+            found = [[step for step in path(tree, wish) if step in told] for wish in wishes]
+            wishes = [steps[0] for steps in found if steps]
+        elif word == "swap":
+            wishes = [dict(told).get(wish, wish) for wish in wishes]
+        elif word == "head":
+            wishes = list(told) + list(wishes)
+        else:
+            wishes = list(wishes) + list(told)
+    return tuple(wishes)
+
+
+def doors_of(tree, longest):
+    """All doors of the tree, those that have a wish list with at most so many wishes."""
+    locales = range(len(tree))
+    parts = [part for size in range(len(tree) + 1) for part in combinations(locales, size)]
+    found = [(word, part) for word in ("only", "lift") for part in parts]
+    for part in parts:
+        for seconds in product(locales, repeat=len(part)):
+            found.append(("swap", tuple(zip(part, seconds))))
+    return found + [(word, wishes) for word in ("head", "pad")
+                    for wishes in lists_up_to(tree, longest)]
+
+
+def parted(tree, doors, other_doors, lists):
+    """The first of the lists that becomes two lists with unlike slim lists, or None."""
+    for wishes in lists:
+        if slim(tree, behind(tree, doors, wishes)) != slim(tree, behind(tree, other_doors, wishes)):
             return wishes
     return None

@@ -1,6 +1,9 @@
 """Valid values, and values of all other kinds and forms."""
 
 import wishedtongues.errors as errors
+from wishedtongues.benches import Bench, LeanBench, LeanPageBench, PageBench
+from wishedtongues.console import Console
+from wishedtongues.doors import Doors
 
 TREE = (None, 0, 1, 0)
 ROWS = ((5, 6), (1, None), (None, 2), (None, 3))
@@ -45,6 +48,8 @@ def objects():
     return [
         errors.WishError("1"), errors.InvalidTree("key"), errors.Mixed((1,)),
         errors.InvalidWords(0), errors.InvalidCommand(""),
+        Doors(TREE), Doors((None, 0), ("only", (0,)), ("pad", (1, 1))), Bench(KEYED), LeanBench(BUNDLED),
+        PageBench(BUNDLED, page=(0,)), LeanPageBench(ONE_LOCALE, page=(0,)), Console(KEYED),
     ]
 
 
@@ -62,7 +67,9 @@ def any_values():
         nested(tuple, 30), nested(list, 30), (nested(list, 29), nested(tuple, 29)),
         TREE, list(TREE), ROWS, list(ROWS), KEYED, list(KEYED), (KEYED,), BUNDLED, FLAT_TEN,
         FLAT_TEN + (0,), CHAIN_TEN + (9,),
-    ] + objects() + [(error,) for error in objects()]
+        "only", ("only", ()), ("lift", (0, 1)), ("swap", ((0, 1), (1, 0))), ["head", (1,)], ("pad", [1]),
+        (("only", ()),), "tree a b a", "key tree rows 5-", "a b", "-", "swap a>b", "undo", "try least",
+    ] + objects() + [(one,) for one in objects()] + [[one, one] for one in objects()[5:]]
 
 
 def changed(value):

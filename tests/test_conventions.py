@@ -4,11 +4,15 @@ import inspect
 import unittest
 
 import samples
+import wishedtongues.benches as benches
 import wishedtongues.catalogs as catalogs
 import wishedtongues.compare as compare
+import wishedtongues.console as console
+import wishedtongues.doors as doors
 import wishedtongues.least as least
 import wishedtongues.pages as pages
 import wishedtongues.trees as trees
+import wishedtongues.words as words
 from samples import BUNDLED, CATALOGS, KEYED, TREE
 
 INTERFACE = {
@@ -58,6 +62,40 @@ INTERFACE = {
         "fewest_added": "(catalog, page)",
         "completed": "(catalog, page, text)",
     },
+    doors: {
+        "is_door": "(tree, value)",
+    },
+    words: {
+        "write_wishes": "(tree, wishes)",
+        "read_wishes": "(tree, words)",
+        "write_tree": "(tree)",
+        "read_tree": "(words)",
+        "write_catalog": "(catalog)",
+        "read_catalog": "(words)",
+        "write_door": "(tree, door)",
+        "read_door": "(tree, words)",
+    },
+}
+
+# What stands in the body of each class itself: of a property, and of an operator, the name alone.
+DEEDS = {"put": "(self, locale, key, text)", "take": "(self, locale, key)", "twin": "(self)"}
+CLASSES = {
+    doors.Doors: {
+        "__init__": "(self, tree, *doors)", "of": "(tree, doors)", "tree": None, "doors": None,
+        "__call__": "(self, wishes)", "__len__": "(self)", "__getitem__": None, "__add__": None,
+        "__eq__": None, "parting": "(self, b)", "same_here": "(self, b, catalog)",
+        "behind": "(self, door)",
+    },
+    benches.Bench: {
+        "__init__": "(self, catalog)", "catalog": None, "tree": None, "way": None,
+        "show": "(self, wishes)", "mixing": "(self, page)", "undo": "(self)", "__len__": "(self)",
+        "__getitem__": None, "__contains__": None, "__eq__": None, "begin": "(self)",
+        "finish": "(self)", **DEEDS,
+    },
+    benches.LeanBench: {"__init__": "(self, catalog)", **DEEDS},
+    benches.PageBench: {"__init__": "(self, catalog, *, page)", "page": None, **DEEDS},
+    benches.LeanPageBench: {"__init__": "(self, catalog, *, page)", "page": None, **DEEDS},
+    console.Console: {"__init__": "(self, catalog)", "execute": "(self, command)"},
 }
 
 
@@ -100,7 +138,37 @@ def calls():
             (pages.mixes, (catalog, wishes, page)), (pages.mixing, (catalog, page)),
             (pages.fewest_added, (catalog, page)), (pages.completed, (catalog, page, 8)),
         ]
+        door = ("swap", ((0, low),))
+        found += [
+            (doors.is_door, (tree, door)), (words.write_wishes, (tree, wishes)),
+            (words.read_wishes, (tree, words.write_wishes(tree, wishes))), (words.write_tree, (tree,)),
+            (words.read_tree, (words.write_tree(tree),)), (words.write_catalog, (catalog,)),
+            (words.read_catalog, (words.write_catalog(catalog),)), (words.write_door, (tree, door)),
+            (words.read_door, (tree, words.write_door(tree, door))),
+            (of_doors, (tree, (door, ("pad", (low,))), wishes)), (of_bench, (catalog, low)),
+            (of_console, (catalog, ("show -", "put a 0 5", "least", "try take a 0", "undo"))),
+        ]
     return found
+
+
+def of_doors(tree, row, wishes):
+    """What rows of doors answer."""
+    made, other = doors.Doors.of(tree, row), doors.Doors(tree)
+    return [made(wishes), made.doors, made.tree, made.parting(other), (other + made).doors,
+            made.same_here(other, (tree, "key", ((1,),) * len(tree)))]
+
+
+def of_bench(catalog, locale):
+    """What a bench answers on its way."""
+    bench = benches.Bench(catalog)
+    return [bench.put(locale, 0, 4), bench[locale], bench.show((locale,)), bench.mixing((0,)),
+            bench.take(locale, 0), bench.twin().undo(), bench.catalog, len(bench), bench.undo()]
+
+
+def of_console(catalog, commands):
+    """What a console answers to one command behind the other."""
+    made = console.Console(catalog)
+    return [made.execute(command) for command in commands]
 
 
 def listed_least(catalog):
@@ -124,6 +192,24 @@ class Interface(unittest.TestCase):
                     with self.assertRaises(TypeError):
                         getattr(module, name)(*given)
 
+    def test_classes_and_what_stands_in_their_bodies(self):
+        for made, names in CLASSES.items():
+            for name, signature in names.items():
+                self.assertIn(name, vars(made), made)
+                found = vars(made)[name]
+                if name in ("tree", "doors", "catalog", "way", "page"):
+                    self.assertIsInstance(found, property, name)
+                elif signature is not None:
+                    self.assertEqual(str(inspect.signature(getattr(made, name))), signature, name)
+        self.assertIsInstance(vars(doors.Doors)["of"], staticmethod)
+        self.assertEqual([made.__module__ for made in CLASSES], (
+            ["wishedtongues.doors"] + ["wishedtongues.benches"] * 4 + ["wishedtongues.console"]))
+
+    def test_all_that_the_bodies_have_beside_is_private(self):
+        for made, names in CLASSES.items():
+            for name in vars(made):
+                self.assertTrue(name in names or name[0] == "_", (made, name))
+
 
 class Conventions(unittest.TestCase):
     def test_kinds_of_results(self):
@@ -136,6 +222,9 @@ class Conventions(unittest.TestCase):
             "alike": bool, "parting": tuple, "within": bool, "lacking": tuple, "needless": list,
             "is_least": bool, "least": tuple, "count_least": int, "listed_least": list,
             "mixes": bool, "mixing": tuple, "fewest_added": int, "completed": tuple,
+            "is_door": bool, "write_wishes": str, "read_wishes": tuple, "write_tree": str,
+            "read_tree": tuple, "write_catalog": str, "read_catalog": tuple, "write_door": str,
+            "read_door": tuple, "of_doors": list, "of_bench": list, "of_console": list,
         }
         may_be_none = ("own_text", "shown", "place", "chosen", "parting_catalog", "parting",
                        "lacking", "mixing")
@@ -178,6 +267,11 @@ class Conventions(unittest.TestCase):
             trees.is_locale(TREE, value)
             trees.is_wishes(TREE, value)
             catalogs.is_catalog(value)
+            doors.is_door(TREE, value)
+            doors.is_door(TREE, ("swap", value))
+            self.assertIs(value in benches.Bench(samples.NO_ENTRIES), False)
+            self.assertIs(doors.Doors((None, 0, 0, 0)) == value, False)
+            self.assertIs(benches.Bench(samples.NO_ENTRIES) == value, False)
             self.assertEqual(repr(value), before)
 
     def test_a_changed_result_changes_nothing(self):
@@ -197,6 +291,12 @@ class Conventions(unittest.TestCase):
         first = catalogs.with_text(catalog, 0, 0, 1)
         rows.clear()
         self.assertEqual(first[2][1:], ((1, None), (None, 2), (None, 3)))
+
+    def test_rows_of_doors_do_not_change_with_a_list(self):
+        row = [("only", (1,)), ("pad", (2,))]
+        made = doors.Doors(TREE, *row)
+        row.clear()
+        self.assertEqual(made.doors, (("only", (1,)), ("pad", (2,))))
 
 
 if __name__ == "__main__":

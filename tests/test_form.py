@@ -86,7 +86,9 @@ class Form(unittest.TestCase):
         package, file = module.split(".")
         self.assertEqual(package, "wishedtongues", name)
         defining = ast.parse((PACKAGE / (file + ".py")).read_text(encoding="utf-8"))
-        self.assertIn(word, [node.name for node in defining.body if hasattr(node, "name")], name)
+        known = [node.name for node in defining.body if hasattr(node, "name")]
+        known += [node.targets[0].id for node in defining.body if isinstance(node, ast.Assign)]
+        self.assertIn(word, known, name)
 
     def test_no_two_files_import_from_each_other(self):
         uses = {name[:-3]: {node.module.split(".")[1] for node in ast.walk(tree)
@@ -132,6 +134,65 @@ class Form(unittest.TestCase):
             elif isinstance(node, ast.Name) and isinstance(node.ctx, ast.Store):
                 found.add(node.id)
         return found
+
+    def test_what_operators_and_properties_run_changes_nothing(self):
+        # All of the package keeps to it, as nearly all of it is run by an operator.
+        for name, tree in trees():
+            for node in ast.walk(tree):
+                self.assertNotIsInstance(node, (ast.GeneratorExp, ast.Set, ast.SetComp, ast.NamedExpr), name)
+                if isinstance(node, ast.AugAssign):
+                    self.assertIsInstance(node.value, ast.Constant, (name, node.lineno))
+                if isinstance(node, ast.Call) and isinstance(node.func, ast.Attribute):
+                    self.assertNotEqual(node.func.attr, "sort", name)
+
+    def test_attributes_are_assigned_where_methods_change_them_alone(self):
+        for name, tree in trees():
+            for made in [node for node in tree.body if isinstance(node, ast.ClassDef)]:
+                for method in [node for node in made.body if isinstance(node, ast.FunctionDef)]:
+                    if method.name != "__init__" and (method.name[:2] == "__" or method.decorator_list):
+                        for node in ast.walk(method):
+                            if isinstance(node, (ast.Attribute, ast.Subscript)):
+                                self.assertIsInstance(node.ctx, ast.Load, (made.name, method.name))
+
+    def test_classes(self):
+        allowed = ("__init__ __eq__ __len__ __call__ __iter__ __add__ __contains__ __getitem__").split()
+        for name, tree in trees():
+            for made in [node for node in ast.walk(tree) if isinstance(node, ast.ClassDef)]:
+                self.assertIn(made, tree.body)
+                self.assertEqual((made.decorator_list, made.keywords), ([], []))
+                names = [node.name for node in made.body if isinstance(node, ast.FunctionDef)]
+                self.assertEqual(len(names), len(set(names)), made.name)
+                self.assertTrue(all(one in allowed for one in names if one[:2] == "__"), made.name)
+                self.assertEqual("__getitem__" in names, "__iter__" in names, made.name)
+
+    def test_decorators_and_nested_functions(self):
+        for name, tree in trees():
+            methods = [node for made in tree.body if isinstance(made, ast.ClassDef) for node in made.body]
+            for node in functions(tree):
+                self.assertTrue(node in tree.body or node in methods, (name, node.name))
+                words = [one.id for one in node.decorator_list]
+                self.assertIn(words, ([], ["property"], ["staticmethod"]) if node in methods else ([],))
+
+    def test_own_errors_alone_are_caught(self):
+        own = [node.name for node in ast.parse((PACKAGE / "errors.py").read_text()).body
+               if isinstance(node, ast.ClassDef)]
+        for name, tree in trees():
+            for node in ast.walk(tree):
+                if isinstance(node, ast.ExceptHandler):
+                    self.assertIn(node.type.id, own, name)
+                if isinstance(node, ast.Raise) and node.exc is not None:
+                    self.assertIn(node.exc.func.id, own + ["TypeError"], name)
+                if isinstance(node, ast.Try):
+                    self.assertEqual(node.finalbody, [], name)
+
+    def test_no_name_is_a_method_and_an_attribute(self):
+        methods, attributes = set(), set()
+        for _, tree in trees():
+            for made in [node for node in tree.body if isinstance(node, ast.ClassDef)]:
+                methods |= {node.name for node in made.body if isinstance(node, ast.FunctionDef)}
+            attributes |= {node.attr for node in ast.walk(tree)
+                           if isinstance(node, ast.Attribute) and isinstance(node.ctx, ast.Store)}
+        self.assertEqual(methods & attributes, set())
 
     def test_no_local_name_is_an_imported_one(self):
         for name, tree in trees():

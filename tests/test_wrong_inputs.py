@@ -7,10 +7,12 @@ import reference
 import samples
 import wishedtongues.catalogs as catalogs
 import wishedtongues.compare as compare
+import wishedtongues.doors as doors
 import wishedtongues.errors as errors
 import wishedtongues.least as least
 import wishedtongues.pages as pages
 import wishedtongues.trees as trees
+import wishedtongues.words as words
 from samples import BUNDLED, KEYED, TREE
 
 ERRORS = {
@@ -26,12 +28,14 @@ ERRORS = {
     "longest": errors.InvalidChoice,
     "most": errors.InvalidChoice,
     "page": errors.InvalidPage,
+    "door": errors.InvalidDoor,
+    "doors": errors.InvalidDoor,
 }
 
 VALID = {
     "tree": TREE, "locale": 2, "wishes": (2, 0, 3), "other_wishes": (1, 3), "way": "key",
     "catalog": KEYED, "other_catalog": KEYED, "key": 1, "text": 4, "longest": 3, "most": 7,
-    "value": 1, "page": (0, 1),
+    "value": 1, "page": (0, 1), "door": ("swap", ((0, 2), (3, 1))), "doors": (("only", (1,)), ("pad", (0,))),
 }
 
 # What is right where TREE is the tree and KEYED the catalog.
@@ -48,6 +52,8 @@ RIGHT = {
     "longest": lambda value: reference.is_whole(value) and 0 <= value <= 10,
     "most": lambda value: reference.is_whole(value) and 1 <= value <= 1000,
     "page": lambda value: reference.is_page(KEYED, value),
+    "door": lambda value: reference.is_door(TREE, value),
+    "doors": lambda value: type(value) is tuple and all(reference.is_door(TREE, door) for door in value),
 }
 
 SIGNATURES = [
@@ -83,6 +89,12 @@ SIGNATURES = [
     (pages.mixing, ("catalog", "page")),
     (pages.fewest_added, ("catalog", "page")),
     (pages.completed, ("catalog", "page", "text")),
+    (doors.is_door, ("tree", "value")),
+    (doors.Doors.of, ("tree", "doors")),
+    (words.write_wishes, ("tree", "wishes")),
+    (words.write_tree, ("tree",)),
+    (words.write_catalog, ("catalog",)),
+    (words.write_door, ("tree", "door")),
 ]
 
 

@@ -71,9 +71,14 @@ def check_catalog(catalog):
         raise InvalidCatalog("this is no catalog")
 
 
+def has_key(catalog, value):
+    """Whether any value is a key of the catalog."""
+    return is_integer_within(value, 0, count_keys(catalog) - 1)
+
+
 def check_key(catalog, key):
     """Raise InvalidKey unless this is a key of the catalog."""
-    if not is_integer_within(key, 0, count_keys(catalog) - 1):
+    if not has_key(catalog, key):
         raise InvalidKey("this is no key of the catalog")
 
 

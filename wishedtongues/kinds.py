@@ -14,6 +14,11 @@ def is_integer_within(value, low, high):
     return isinstance(value, int) and not isinstance(value, bool) and low <= value <= high
 
 
+def is_ascending(values):
+    """Whether each of the values is less than the next one."""
+    return all([value < next_value for value, next_value in zip(values[:-1], values[1:])])
+
+
 def check_choice(value, low, high):
     """Raise InvalidChoice unless the value is an integer from low to high."""
     if not is_integer_within(value, low, high):

@@ -1,6 +1,6 @@
 """Pages that show two tongues at once; all arguments are taken to be valid."""
 
-from wishedtongues.kinds import is_integer_within, is_tuple
+from wishedtongues.kinds import is_ascending, is_integer_within, is_tuple
 from wishedtongues.paths import path_of, short_lists
 from wishedtongues.showing import first_place, sought
 
@@ -11,7 +11,7 @@ def is_page(many, value):
         return False
     if not all([is_integer_within(key, 0, many - 1) for key in value]):
         return False
-    return all([key < next_key for key, next_key in zip(value[:-1], value[1:])])
+    return is_ascending(value)
 
 
 def tongue_of(tree, locale):
