@@ -141,7 +141,8 @@ class Wrong(Consoles):
     COMMANDS = (
         "", " ", "-", "none", "puts", "put", "put d", "put d 0", "put d 0 7 7", "put d 0 7 ", " put d 0 7",
         "put  d 0 7", "put d  0 7", "put e 0 7", "put d 2 7", "put d 0 -", "put d 0 10", "put d -1 7", "put 3 0 7",
-        "put D 0 7", "put - 0 7", "put d - 7", "put d 0 a", "PUT d 0 7", "put\nd 0 7", "put d 0 7\n", "put d0 7",
+        "put D 0 7", "put - 0 7", "put d - 7", "put d 0 a", "put d 0 x", "put k 0 7", "PUT d 0 7",
+        "put\nd 0 7", "put d 0 7\n", "put d0 7",
         "put dd 0 7", "put d 00 7", "put d 0 7 undo", "put 0 d 7",
         "take", "take c", "take c 1 1", "take e 0", "take c 2", "take 2 1", "take c 1 ", "take -", "take c -",
         "undo undo", "undo ", "undo -", "undo 1", "Undo",

@@ -16,7 +16,7 @@ def is_integer_within(value, low, high):
 
 def is_ascending(values):
     """Whether each of the values is less than the next one."""
-    return all([value < next_value for value, next_value in zip(values[:-1], values[1:])])
+    return all([value < next_value for value, next_value in zip(values, values[1:])])
 
 
 def check_choice(value, low, high):
